@@ -1,0 +1,1 @@
+"""Passpapers: a chain of passes, each with a paper."""
