@@ -18,6 +18,10 @@ TAKES = {
     "out": ("number",), "store": ("list", "number", "number"),
 }
 
+LENGTHS = {
+    "let": 3, "put": 3, "if": 4, "while": 3, "out": 2, "give": 2, "fail": 2, "set": 4, "store": 4, "do": 2,
+}
+
 
 class Look:
     """What the statements of one function are looked at by."""
@@ -104,8 +108,8 @@ def look_at_statements(look, statements, around):
         want(not ended, "a statement stands behind one that ends")
         want(isinstance(statement, tuple) and len(statement) > 0, "a statement is a tuple")
         want(isinstance(statement[0], str) and statement[0] in STATEMENTS, "there is no such statement")
-        action, length = STATEMENTS[statement[0]]
-        want(len(statement) == length, "a statement has too few parts, or too many")
+        want(len(statement) == LENGTHS[statement[0]], "a statement has too few parts, or too many")
+        action = STATEMENTS[statement[0]]
         ended = action(look, statement, kinds)
     return ended
 
@@ -166,9 +170,8 @@ def look_at_do(look, statement, kinds):
 
 
 STATEMENTS = {
-    "let": (look_at_let, 3), "put": (look_at_put, 3), "if": (look_at_if, 4), "while": (look_at_while, 3),
-    "out": (look_at_known, 2), "give": (look_at_give, 2), "fail": (look_at_fail, 2), "set": (look_at_set, 4),
-    "store": (look_at_known, 4), "do": (look_at_do, 2),
+    "let": look_at_let, "put": look_at_put, "if": look_at_if, "while": look_at_while, "out": look_at_known,
+    "give": look_at_give, "fail": look_at_fail, "set": look_at_set, "store": look_at_known, "do": look_at_do,
 }
 
 

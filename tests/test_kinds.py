@@ -132,7 +132,10 @@ class TestWrongForms(unittest.TestCase):
                 ("fun", "f", ("a", "number") * 5, "number", GIVE), ("fun", "f", (("a", "number"),), "number", GIVE),
                 ("fun", "f", tuple(w for v in "abcde" for w in (v, "number")), "number", GIVE),
                 ("fun", "f", (), "other", GIVE), ("fun", "f", (), 5, GIVE), ("fun", "f", (), (), GIVE),
-                ("fun", "f", (), GIVE), ("fun", "f", ((), "number"), "number", GIVE)):
+                ("fun", "f", (), GIVE), ("fun", "f", ((), "number"), "number", GIVE), ("fun", "f", (), "other", ("fail", 1)),
+                ("fun", "f", (), (), ("fail", 1)), ("fun", "f", ("a", "number", "A", "number"), "number", GIVE),
+                ("fun", "f", ("a", "number", "b", "other"), "number", GIVE),
+                ("fun", "f", ("a", "number", "b", "number", "yes", "number"), "number", GIVE)):
             self.refuse(("program", fun, FUN), ("program", FUN, fun))
         self.refuse(("program", FUN, FUN), ("program", ("fun", "f", (), "number", GIVE)),
                     ("program", ("fun", "main", ("a", "truth"), "number", GIVE)),
@@ -153,6 +156,7 @@ class TestWrongForms(unittest.TestCase):
                 ("fail", 32768), ("fail", -32769), ("fail", True), ("do",), ("do", 1, 2), ("set", ("new", "r"), "x"),
                 ("set", ("new", "r"), "x", 1, 2), ("store", ("list", 1), 0), ("store", ("list", 1), 0, 1, 2)):
             self.refuse(("program", ("record", "r", "x"), ("fun", "main", (), "number", statement, GIVE)))
+            self.refuse(("program", ("record", "r", "x"), ("fun", "main", (), "number", statement)))
 
     def test_es(self):
         for e in (
@@ -209,7 +213,7 @@ class TestWrongKinds(unittest.TestCase):
 
     def test_variables(self):
         self.refuse("( give z )", "( let a a ) ( give 0 )", "( let a 1 ) ( let a 2 ) ( give 0 )",
-                    "( let x 1 ) ( give 0 )", "( if yes ( ( let a 1 ) ) ( ( let a 2 ) ) ) ( give 0 )",
+                    "( let x 1 ) ( give 0 )", "( let y 1 ) ( give 0 )", "( if yes ( ( let a 1 ) ) ( ( let a 2 ) ) ) ( give 0 )",
                     "( if yes ( ( let a 1 ) ) ( ) ) ( give a )", "( if yes ( ( let a 1 ) ) ( ( out a ) ) ) ( give 0 )",
                     "( while yes ( ( let a 1 ) ) ) ( give a )", "( if yes ( ( let a 1 ) ) ( ) ) ( let a 2 ) ( give a )",
                     "( while yes ( ( let a 1 ) ) ) ( let a 2 ) ( give a )", "( give a ) ( let a 1 )",

@@ -45,7 +45,9 @@ class TestEnds(unittest.TestCase):
         for e, truth in (
                 ("( < 1 2 )", 1), ("( < 2 2 )", 0), ("( = 2 2 )", 1), ("( = yes yes )", 1), ("( = yes no )", 0),
                 ("( and yes no )", 0), ("( and yes yes )", 1), ("( or no no )", 0), ("( or no yes )", 1), ("yes", 1),
-                ("( not no )", 1), ("( not yes )", 0), ("no", 0)):
+                ("( not no )", 1), ("( not yes )", 0), ("no", 0),
+                ("( = yes ( < 1 2 ) )", 1), ("( = ( not yes ) no )", 1), ("( = yes ( or no yes ) )", 1),
+                ("( = ( < 2 1 ) yes )", 0)):
             self.assertEqual(("answer", truth, ()), run(f"( if {e} ( ( give 1 ) ) ( ( give 0 ) ) )"), e)
 
     def test_faults(self):
