@@ -1,8 +1,8 @@
 """Whether a paper "lowered" tells how a tree became a program of the middle."""
 
-from passpapers.errors import NoMiddle
-from passpapers.looks import look_at_middle
+from passpapers.forms import is_tuple_of
 from passpapers.numbers import is_number
+from passpapers.papers import NOWHERE, is_paper, refused_at
 from passpapers.plans import plan_of
 from passpapers.tables import kind_number, parts_headed
 from passpapers.unlike import all_unlike
@@ -13,13 +13,12 @@ NO_MEND = (None, None)
 
 def lowered_wrong(tree, program, paper):
     """None, or a place at which the program isn't the tree by this paper."""
-    try:
-        look_at_middle(program)
-    except NoMiddle as e:
-        return e.place
+    place = refused_at(program)
+    if place is not None:
+        return place
     funs = list(parts_headed(tree, "fun").values())
-    if len(funs) != len(program) or not is_paper(paper, len(program)):
-        return ("", -1, -1)
+    if len(funs) != len(program) or not is_paper(paper, "lowered") or not is_tuple_of(paper[1], len(program)):
+        return NOWHERE
     for fun, function, told in zip(funs, program, paper[1]):
         place = head_wrong(tree, fun, function)
         if place is None:
@@ -29,13 +28,6 @@ def lowered_wrong(tree, program, paper):
         if place is not None:
             return place
     return None
-
-
-def is_paper(paper, many):
-    """Whether this is a paper "lowered" for so many functions."""
-    if not isinstance(paper, tuple) or len(paper) != 2:
-        return False
-    return paper[0] == "lowered" and isinstance(paper[1], tuple) and len(paper[1]) == many
 
 
 def head_wrong(tree, fun, function):
@@ -50,10 +42,10 @@ def head_wrong(tree, fun, function):
 def told_wrong(function, told):
     """A place where what is told isn't a tuple of labels with pairs, one for each block but the first."""
     blocks = function[3][1:]
-    if not isinstance(told, tuple) or len(told) != len(blocks):
+    if not is_tuple_of(told, len(blocks)):
         return (function[0], -1, -1)
     for block, entry in zip(blocks, told):
-        if not isinstance(entry, tuple) or len(entry) != 2 or not is_number(entry[0]):
+        if not is_tuple_of(entry, 2) or not is_number(entry[0]):
             return (function[0], block[0], -1)
         if entry[0] != block[0] or not are_pairs(entry[1]):
             return (function[0], block[0], -1)
@@ -67,7 +59,7 @@ def are_pairs(pairs):
 
 
 def is_pair(pair):
-    return isinstance(pair, tuple) and len(pair) == 2 and isinstance(pair[0], str) and is_number(pair[1])
+    return is_tuple_of(pair, 2) and isinstance(pair[0], str) and is_number(pair[1])
 
 
 def body_wrong(tree, fun, function, told):

@@ -3,6 +3,10 @@
 A function is (name, params, kind, blocks), a block (label, params, rows, end), a row (name, op, told, args).
 """
 
+SUMS = ("+", "-", "*", "/", "rest", "<", "=", "and", "or", "not")
+# What always gives a value, the same one for the same args, and does nothing else.
+SAFE = ("num", "copy", "long", "not", "+", "-", "*", "<", "=", "and", "or")
+
 
 def block_of(function, label):
     """The block of that label; None where there is none."""
@@ -26,6 +30,14 @@ def used_by(end):
     return (end[1],) if end[0] in ("branch", "give") else ()
 
 
+def end_with(end, names, ways):
+    """The end with these instead of the names that it uses itself, and instead of its ways."""
+    made = end if end[0] == "fail" else end[:1] + tuple(names)
+    for way in ways:
+        made += way
+    return made
+
+
 def param_names(params):
     return [name for name, kind in params]
 
@@ -37,3 +49,13 @@ def row_names(rows):
 def names_given(block):
     """The names that a block gives: its params' and its rows'."""
     return param_names(block[1]) + row_names(block[2])
+
+
+def rows_by_name(function):
+    """For each name that a row gives: (label, index, row)."""
+    return {row[0]: (block[0], index, row) for block in function[3] for index, row in enumerate(block[2])}
+
+
+def params_by_name(function):
+    """For each name that a block's param gives: (label, index)."""
+    return {name: (block[0], index) for block in function[3] for index, name in enumerate(param_names(block[1]))}
