@@ -105,7 +105,11 @@ def is_mended_by(ground, spot):
 
 
 def is_too_many(ground, spot):
-    return spot[1] < len(ground.blocks[spot[0]][2]) and goes_through(ground, Mend(spot, True, []))
+    rows = ground.blocks[spot[0]][2]
+    # A row whose name is used isn't too many.
+    if spot[1] == len(rows) or rows[spot[1]][0] in ground.wanted_names:
+        return False
+    return goes_through(ground, Mend(spot, True, []))
 
 
 def goes_through(ground, mend):

@@ -51,6 +51,18 @@ def names_given(block):
     return param_names(block[1]) + row_names(block[2])
 
 
+def names_used(function):
+    """All names that the function's rows and ends use."""
+    used = {}
+    for label, params, rows, end in function[3]:
+        for row in rows:
+            used.update({name: True for name in row[3]})
+        used.update({name: True for name in used_by(end)})
+        for led, args in ways_of(end):
+            used.update({name: True for name in args})
+    return used
+
+
 def rows_by_name(function):
     """For each name that a row gives: (label, index, row)."""
     return {row[0]: (block[0], index, row) for block in function[3] for index, row in enumerate(block[2])}

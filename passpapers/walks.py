@@ -4,7 +4,7 @@ The walk may be told to mend one spot, a row or an end: to take it as the walk w
 row, to pass over it. So one finds out whether that row or end alone is wrong.
 """
 
-from passpapers.middle import param_names, ways_of
+from passpapers.middle import names_used, param_names, ways_of
 from passpapers.plans import names_made
 
 
@@ -23,13 +23,14 @@ class Wanting(Exception):
 
 
 class Ground:
-    """What one function's walk goes along: its plan, the blocks and their pairs by labels, and what is first."""
+    """What one function's walk goes along: its plan, its blocks with their pairs, the names used, and what is first."""
 
     def __init__(self, plan, variables, function, told):
         self.plan = plan
         self.blocks = {block[0]: block for block in function[3]}
         self.params = {block[0]: param_names(block[1]) for block in function[3]}
         self.pairs = {label: pairs for label, pairs in told}
+        self.wanted_names = names_used(function)
         self.first = function[3][0][0]
         self.known = dict(zip(variables, param_names(function[1])))
 

@@ -104,12 +104,11 @@ class Spoiler:
 
     def rows_too_many(self, index):
         rows = self.block[2]
-        yield (self.fresh, "num", 12345, ())
-        if index > 0:
-            yield (self.fresh,) + rows[index - 1][1:]
-        # Ahead of one like it, a row is the one too many only where the other's name is used.
-        if index < len(rows) and rows[index][0] in self.uses:
-            yield (self.fresh,) + rows[index][1:]
+        like = [(self.fresh, "num", 12345, ())] + [(self.fresh,) + row[1:] for row in rows[max(0, index - 1):index + 1]]
+        for row in like:
+            # Ahead of one like it, a row is the one too many only where the other's name is used.
+            if index == len(rows) or rows[index][1:] != row[1:] or rows[index][0] in self.uses:
+                yield row
 
     def spoiled(self):
         title, (label, params, rows, end) = self.function[0], self.block

@@ -11,14 +11,21 @@ from test_lowering import MAINS, tree_of
 from passpapers.dropped import dropped_wrong
 from passpapers.dropping import drop
 from passpapers.facts import facts_wrong
+from passpapers.joining import join_blocks
 from passpapers.knowing import know
 from passpapers.lowering import lower
 from passpapers.midrun import middle_run
 from passpapers.moved import moved_wrong
 from passpapers.moving import move_out
+from passpapers.threading import thread
+from passpapers.turning import turn_rounds
+from passpapers.unrolling import unroll
+from passpapers.ways import ways_wrong
 
 PASSES = {
     "know": (know, facts_wrong), "drop": (drop, dropped_wrong), "move": (move_out, moved_wrong),
+    "join": (join_blocks, ways_wrong), "thread": (thread, ways_wrong), "turn": (turn_rounds, ways_wrong),
+    "unroll": (lambda program: unroll(program, 2), ways_wrong), "more": (lambda program: unroll(program, 3), ways_wrong),
 }
 
 
@@ -70,7 +77,7 @@ class TestPasses(unittest.TestCase):
 
     def test_one_row_or_one_end_alone_is_wrong(self):
         let_by = 0
-        for seed in range(60):
+        for seed in range(40):
             chooser = random.Random(seed)
             program = program_of(seed)
             runs = [run[:3] for run in runs_of(program, seed)]
