@@ -131,8 +131,9 @@ def fill_draft(layout, draft):
     for place, label in enumerate(path):
         block = block_of(layout.function, label)
         if place > 0:
-            args = args_along(layout, draft, standing, path[place - 1])
-            hand_on(standing, param_names(block[1]), [standing.get(arg) for arg in args])
+            # What isn't needed behind may stand for nothing.
+            things = [standing.get(arg) for arg in args_along(layout, draft, standing, path[place - 1])]
+            standing.update(dict(zip(param_names(block[1]), things)))
         for name, op, told, args in block[2]:
             thing = layout.new_thing(name)
             draft.rows.append((thing, op, told, [standing[arg] for arg in args]))
@@ -150,15 +151,6 @@ def args_along(layout, draft, standing, label):
         return ways[0][1]
     numbers = {row[0]: row[2] for row in draft.rows if row[1] == "num"}
     return ways[1 if numbers[standing[end[1]]] == 0 else 0][1]
-
-
-def hand_on(standing, params, things):
-    """Params get what is handed, all at once; None where that isn't needed."""
-    for name, thing in zip(params, things):
-        if thing is None:
-            standing.pop(name, None)
-        else:
-            standing[name] = thing
 
 
 def things_handed(layout, standing, label, args):

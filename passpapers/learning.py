@@ -86,14 +86,18 @@ def learn_param(learner, name, fact, times):
 
 
 def fact_of_param(learner, label, name, handed):
-    """What the ways tell of a param of the block of that label, by the names that they hand it."""
+    """What the ways tell of a param of the block of that label, by the names that they hand it.
+
+    In order, one of these ways at least has been come to ahead of the block, so one name at least has, too.
+    """
     facts = learner.facts
     came = [arg for arg in handed if arg in learner.come_to]
     numbers = [facts.number_of(arg) for arg in came]
-    if len(numbers) > 0 and numbers[0] is not None and numbers == numbers[:1] * len(numbers):
+    if numbers[0] is not None and numbers == numbers[:1] * len(numbers):
         return (numbers[0], None)
-    roots = [facts.root_of(arg) for arg in came if arg != name and facts.root_of(arg) != name]
-    if len(roots) > 0 and roots == roots[:1] * len(roots) and may_be_same(learner, name, roots[0], label, 0):
+    # What it is handed of itself tells nothing.
+    roots = [facts.root_of(arg) for arg in came if facts.root_of(arg) != name]
+    if roots == roots[:1] * len(roots) and may_be_same(learner, name, roots[0], label, 0):
         return (None, roots[0])
     # Another param of the block, ahead of this one, is the same where each way hands both the same.
     roots = [facts.root_of(arg) if arg in learner.come_to else None for arg in handed]

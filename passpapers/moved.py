@@ -70,13 +70,9 @@ def staying(block):
 def order_wrong(was, function):
     """A place where rows that don't float stand in other blocks, or in another order."""
     for block, there in zip(was[3], function[3]):
-        wanted = staying(block)
         names = staying(there)
-        foreign = [name for name in names if name not in wanted]
-        if len(foreign) > 0:
-            return (function[0], there[0], row_names(there[2]).index(foreign[0]))
         # A row that is missing here stands elsewhere, and is told there.
-        wanted = [name for name in wanted if name in names]
+        wanted = [name for name in staying(block) if name in names]
         if wanted != names:
             return (function[0], there[0], row_names(there[2]).index(names[odd_index(wanted, names)]))
     return None

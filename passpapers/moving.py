@@ -19,19 +19,16 @@ def function_moved(function):
     rows = {block[0]: list(block[2]) for block in function[3]}
     old = dict(homes)
     order = labels_in_order(function)
-    rounds = rounds_of(function)
-    changed = True
-    while changed:
-        changed = False
-        for part in rounds:
-            changed = leave_round(part, order, rows, homes) or changed
+    # Of two rounds one lies within the other, or they have no block in common: so once for each will do, in any order.
+    for part in rounds_of(function):
+        leave_round(part, order, rows, homes)
     blocks = [(label, params, tuple(rows[label]), end) for label, params, was, end in function[3]]
     told = sorted([(name, label) for name, label in homes.items() if label != old[name]])
     return function[:3] + (tuple(blocks),), tuple(told)
 
 
 def leave_round(part, order, rows, homes):
-    """Moves what it can out of the round, behind its porch's rows; tells whether there was something.
+    """Moves what it can out of the round, behind its porch's rows.
 
     The blocks are gone through so that a row comes behind all that it uses; what is moved stands in that order.
     """
@@ -45,4 +42,3 @@ def leave_round(part, order, rows, homes):
     for label in part.inside:
         rows[label] = [row for row in rows[label] if homes[row[0]] == label]
     rows[part.porch].extend(moving)
-    return len(moving) > 0

@@ -15,10 +15,9 @@ class Road:
 
 
 def stray_of(road, label, rows, end):
-    """Where the block of that label, were these its rows and its end, isn't as the paper wants it: (index, wanted).
+    """Where the block of that label, were these its rows and its end, isn't as the paper wants it.
 
-    The index is that of a row, or of the end, or -1 where the path is none; wanted is what the row should be but for
-    its name, None where there should be none. None where all is as wanted.
+    That is the index of a row, or of the end, or -1 where the path is none; None where all is as wanted.
     """
     standing = dict(road.pairs[label])
     index = 0
@@ -26,16 +25,16 @@ def stray_of(road, label, rows, end):
     for step in road.paths[label]:
         block = road.blocks[step]
         if last is not None and not is_led_on(last, block, standing, rows[:index]):
-            return (-1, None)
+            return -1
         for name, op, told, args in block[2]:
             wanted = (op, told, tuple([standing.get(arg) for arg in args]))
             if index == len(rows) or rows[index][1:] != wanted:
-                return (index, wanted)
+                return index
             standing[name] = rows[index][0]
             index += 1
         last = block
     if index < len(rows) or not is_end_right(road, last[3], end, standing):
-        return (index, None)
+        return index
     return None
 
 
@@ -72,46 +71,25 @@ def is_way_right(road, way, led, standing):
     handed = dict(zip(param_names(road.blocks[way[0]][1]), way[1]))
     taken_in = dict(zip(road.params[led[0]], led[1]))
     for old, new in road.pairs[led[0]]:
-        stands = standing.get(handed.get(old, old))
-        if stands is None or stands != taken_in.get(new, new):
+        if standing.get(handed.get(old, old)) != taken_in.get(new, new):
             return False
     return True
 
 
-def odd_row_of(road, label, rows, end, stray):
-    """The index of the row or end that alone is wrong; where there is none such, that at which the walk goes astray.
+def odd_row_of(road, label, rows, end, index):
+    """The index of the row that alone is too many, or alone out of its order; else that where the walk goes astray.
 
-    A row too many may look like the next one, so the walk may go astray only behind it.
+    Such a row may look like the next one, so the walk may go astray only behind it.
     """
-    index, wanted = stray
     if index < 0 or index == len(rows):
-        return index
-    if wanted is not None and is_right_with(road, label, rows, end, index, [rows[index][:1] + wanted]):
         return index
     for place in range(index, -1, -1):
         # A row whose name is used isn't too many.
-        if rows[place][0] not in road.wanted_names and is_right_with(road, label, rows, end, place, []):
-            return place
-    return row_displaced(road, label, rows, end, index)
-
-
-def is_right_with(road, label, rows, end, place, others):
-    """Whether the block would be right with these other rows instead of the row at that place."""
-    return stray_of(road, label, rows[:place] + tuple(others) + rows[place + 1:], end) is None
-
-
-def row_displaced(road, label, rows, end, index):
-    """The index of the row that alone stands at the wrong place, if there is one such; else the index told."""
-    for place in range(index, len(rows)):
-        if stray_of(road, label, moved_to(rows, place, index), end) is None:
+        others = rows[:place] + rows[place + 1:]
+        if rows[place][0] not in road.wanted_names and stray_of(road, label, others, end) is None:
             return place
     for place in range(index + 1, len(rows)):
-        if stray_of(road, label, moved_to(rows, index, place), end) is None:
-            return index
+        others = rows[:index] + rows[place:place + 1] + rows[index:place] + rows[place + 1:]
+        if stray_of(road, label, others, end) is None:
+            return place
     return index
-
-
-def moved_to(rows, place, goal):
-    """The rows with that at the place moved to stand at the goal."""
-    others = rows[:place] + rows[place + 1:]
-    return others[:goal] + rows[place:place + 1] + others[goal:]

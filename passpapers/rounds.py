@@ -19,10 +19,9 @@ def rounds_of(function):
     leads = {label: led for label, led in leads_of(function).items() if label in above}
     found = []
     for block in function[3]:
-        if block[0] in above:
-            porch = porch_of(function, above, leads, block[0])
-            if porch is not None:
-                found.append(Round(block[0], porch, inside_of(above, leads, block[0], porch)))
+        porch = porch_of(function, above, leads, block[0])
+        if porch is not None:
+            found.append(Round(block[0], porch, inside_of(above, leads, block[0], porch)))
     return found
 
 

@@ -15,9 +15,7 @@ class Facts:
         return self.sames.get(name, name)
 
     def number_of(self, name):
-        """The number that the name is known as; None where it isn't."""
-        if name in self.numbers:
-            return self.numbers[name]
+        """The number that the name is known as; None where it isn't. A name with a number has itself as its root."""
         return self.numbers.get(self.root_of(name))
 
     def are_alike(self, name, other):
@@ -26,8 +24,7 @@ class Facts:
         return self.number_of(name) is not None and self.number_of(name) == self.number_of(other)
 
     def are_all_alike(self, names, others):
-        if len(names) != len(others):
-            return False
+        """Whether these names, as many as the others, are alike one by one."""
         return all([self.are_alike(name, other) for name, other in zip(names, others)])
 
 

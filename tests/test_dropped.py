@@ -119,11 +119,18 @@ class TestDroppedWrong(Checking):
         for labels in ((6,), (7,), (6, 7), (6, 8), (7, 8)):
             self.may_not(ring, labels=labels)
 
+    def test_a_first_block_that_nothing_leads_to(self):
+        program = main_of((5, (), (), ("give", 0)), (6, (), (), ("give", 90)))
+        self.may(program, labels=(6,))
+        self.may_not(program, labels=(5,), place=("main", -1, -1))
+
     def test_papers_that_tell_what_is_not_there(self):
         functions, (aid, (labels, names)) = PAPER[1]
         for paper in NO_PAPERS:
             with self.subTest(paper=paper):
-                self.wrong(PROGRAM, AFTER, paper)
+                self.wrong(PROGRAM, AFTER, paper, ("", -1, -1))
+        for told in (None, (labels,), (labels, names + (77,)), (labels + (77,), names), (labels, names + (25,))):
+            self.wrong(PROGRAM, AFTER, ("dropped", (functions, (aid, told))), ("main", -1, -1))
         for body in ((functions, ((labels, names), aid)), (functions, (aid,)), (functions, (aid, (labels, names), aid)),
                      (functions, (aid, (names, labels))), (functions, (aid, (labels,))), (functions, (aid, (labels, names, ()))),
                      (functions, [aid, (labels, names)]), (functions, (aid, [labels, names])), (functions, (aid, (labels, list(names)))),

@@ -263,7 +263,9 @@ class TestFactsForm(CheckingFacts):
         program = of_rows()
         for paper in NO_PAPERS:
             with self.subTest(paper=paper):
-                self.wrong(program, program, paper)
+                self.wrong(program, program, paper, ("", -1, -1))
+        for told in (None, 0, KNOWN[0], KNOWN + KNOWN):
+            self.wrong(program, program, ("facts", (told,)), ("main", -1, -1))
 
     def test_entries(self):
         program = of_rows((10, "copy", None, (0,))) + (("aid", ((0, 0),), 0, ((3, (), ((1, "num", 4, ()),), ("give", 1)),)),)
@@ -280,6 +282,18 @@ class TestFactsForm(CheckingFacts):
                      (mains, ((1, "same", None, "row"),)), (mains, ((1, "same", 1, "row"),)), (mains, ((1, "same", (), "row"),))):
             with self.subTest(body=body):
                 self.wrong(program, program, ("facts", body))
+
+    def test_other_words(self):
+        program = of_rows((10, "+", None, (0, 90)), (11, "+", None, (0, 90)), (12, "copy", None, (0,)))
+        self.holds(program, (11, "same", 10, "like"), (12, "same", 0, "row"))
+        for fact in ((11, "same", 10, "liked"), (11, "same", 10, None), (11, "like", 10, "like"), (12, "was", 0, "row"), (12, None, 0, "row"),
+                     (11, "is", 10, "like"), (12, "same", 0, "rows")):
+            self.fails(program, fact)
+
+    def test_names_that_are_not_there(self):
+        program = of_rows()
+        for name in (0, 90, 77, -1):
+            self.fails(program, (name, "is", 0, "row"), place=("main", -1, -1))
 
     def test_a_name_with_two_facts(self):
         program = of_rows((10, "copy", None, (3,)))
@@ -301,13 +315,13 @@ class TestFactsForm(CheckingFacts):
         self.let_by(program, program, paper)
         main, aid = program
         self.wrong(program, (aid, main), ("facts", ((), KNOWN)))
-        self.wrong(program, (main,), paper)
+        self.wrong(program, (main,), paper, ("", -1, -1))
         self.wrong(program, program + (("other", (), 0, ((3, (), ((0, "num", 1, ()),), ("give", 0)),)),), paper)
         self.wrong(program, (main, ("aide",) + aid[1:]), paper, ("aide", -1, -1))
         self.wrong(program, (main, ("aid", ((0, 1),), 1) + aid[3:]), paper, ("aid", -1, -1))
         self.wrong(program, (main, ("aid", ((7, 0),), 0, ((3, (), (), ("give", 7)),))), paper, ("aid", -1, -1))
         self.wrong(program, (main, aid[:3] + (((4, (), (), ("give", 0)),),)), paper, ("aid", 4, -1))
-        self.wrong(program, (main, aid[:3] + (aid[3] + ((4, (), (), ("give", 0)),),)), paper)
+        self.wrong(program, (main, aid[:3] + (aid[3] + ((4, (), (), ("give", 0)),),)), paper, ("aid", -1, -1))
         self.wrong(program, (main, aid[:3] + (((4, (), (), ("give", 0)),) + aid[3],)), paper)
 
 
@@ -383,6 +397,13 @@ class TestChanges(CheckingFacts):
         self.wrong(program, with_block(program, 6, rows=((10, "copy", None, (10,)), (11, "copy", None, (0,)))),
                    paper_of((10, "same", 0, "row"), (11, "same", 0, "row")), ("main", 6, 0))
 
+    def test_a_copy_without_a_fact_of_its_own(self):
+        # 11 is told the same as 10, not 10 as 11.
+        program = main_of((5, (), NUMBERS, ("give", 0)), (6, (), ((10, "not", None, (0,)), (11, "+", None, (10, 1))), ("give", 10)))
+        self.holds(program, (11, "same", 10, "row"))
+        self.wrong(program, with_block(program, 6, rows=((10, "copy", None, (11,)), (11, "+", None, (10, 1)))), paper_of((11, "same", 10, "row")),
+                   ("main", 6, 0))
+
     def test_rows_in_order(self):
         rows = block_of(self.program[0], 5)[2]
         paper = paper_of(*self.FACTS)
@@ -391,6 +412,8 @@ class TestChanges(CheckingFacts):
         for index in range(len(rows) + 1):
             extra = with_block(self.program, 5, rows=rows[:index] + ((50, "num", 7, ()),) + rows[index:])
             self.wrong(self.program, extra, paper, ("main", 5, index))
+        two = rows + ((50, "num", 7, ()), (51, "num", 7, ()))
+        self.wrong(self.program, with_block(self.program, 5, rows=two), paper, ("main", 5, len(rows)))
         self.wrong(self.program, with_block(self.program, 5, rows=rows[:-2] + (rows[-1], rows[-2])), paper)
         # One row too far back, and one too far ahead.
         self.wrong(self.program, with_block(self.program, 5, rows=rows[1:4] + rows[:1] + rows[4:]), paper, ("main", 5, 3))

@@ -9,6 +9,7 @@ from test_lowering import MAINS, tree_of
 
 from passpapers.facts import facts_wrong
 from passpapers.knowing import know
+from passpapers.learning import PATIENCE, Learner, go_through, learn_param
 from passpapers.lowering import lower
 from passpapers.middle import SAFE, SUMS, block_of, rows_by_name
 from passpapers.midrun import middle_run
@@ -79,6 +80,31 @@ class TestKnow(unittest.TestCase):
         self.assertEqual([("copy", None, (0,)), ("num", 8, ()), ("+", None, (4, 2))], [row[1:] for row in block_of(function, 6)[2][1:]])
         self.assertEqual(("branch", 90, 6, (2, 0, 10), 11, ()), block_of(function, 6)[3])
         self.assertEqual(("+", None, (9, 0)), block_of(function, 11)[2][0][1:])
+
+    def test_a_ring_within_a_ring(self):
+        # At first 2 seems to be 4, and 4 with it; then 2 turns out to be another each time, and 4 is still the same as it.
+        function = self.known((5, (), ((1, "num", 4, ()),), ("jump", 6, (1,))), (6, ((2, 0),), ((3, "tick", None, ()),), ("jump", 7, (2,))),
+                              (7, ((4, 0),), ((8, "tick", None, ()), (9, "-", None, (4, 2)), (10, "+", None, (4, 0))), ("branch", 90, 7, (4,), 11, ())),
+                              (11, (), (), ("branch", 0, 6, (10,), 12, ())), (12, (), (), ("give", 4)))
+        self.assertEqual([("num", 0, ()), ("+", None, (2, 0))], [row[1:] for row in block_of(function, 7)[2][1:]])
+        self.assertEqual(("give", 2), block_of(function, 12)[3])
+
+    def test_params_that_are_handed_the_same(self):
+        function = self.known((5, (), ((1, "copy", None, (0,)),), ("branch", 90, 6, (0, 1, 90), 6, (90, 90, 90))),
+                              (6, ((2, 0), (3, 0), (4, 0)), ((7, "tick", None, ()), (8, "-", None, (2, 3)), (9, "-", None, (3, 4))), ("branch", 8, 6, (9, 9, 9), 10, ())),
+                              (10, (), (), ("give", 3)))
+        self.assertEqual([("num", 0, ()), ("-", None, (2, 4))], [row[1:] for row in block_of(function, 6)[2][1:]])
+        self.assertEqual(("give", 2), block_of(function, 10)[3])
+
+    def test_a_param_that_changes_late_is_taken_as_itself(self):
+        learner = Learner(main_of((5, (), (), ("jump", 6, (0,))), (6, ((2, 0),), (), ("give", 2)))[0], {0: 0, 90: 0, 2: 0})
+        self.assertTrue(learn_param(learner, 2, (4, None), PATIENCE))
+        self.assertFalse(learn_param(learner, 2, (4, None), PATIENCE + 1))
+        self.assertEqual((4, None), learner.fact_of(2))
+        self.assertTrue(learn_param(learner, 2, (None, 0), PATIENCE + 1))
+        self.assertEqual((None, None), learner.fact_of(2))
+        self.assertFalse(go_through(learner, PATIENCE + 2))
+        self.assertEqual((None, None), learner.fact_of(2))
 
     def test_params_that_only_seem_the_same(self):
         # Each changes only by what the other was: seen from the porch alone they are the same.

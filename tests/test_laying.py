@@ -147,15 +147,18 @@ class TestThread(Laying):
     def test_round_a_ring(self):
         # The path ends where it would come to a block that is in it.
         program = main_of((5, (), ((1, "num", 1, ()),), ("jump", 6, (1,))), (6, ((2, 0),), ((3, "tick", None, ()), (4, "num", 1, ())), ("branch", 2, 7, (), 8, ())),
-                          (7, (), (), ("jump", 6, (4,))), (8, (), (), ("give", 4)))
-        self.check(program)
+                          (7, (), ((9, "num", 1, ()),), ("jump", 6, (9,))), (8, (), (), ("give", 4)))
+        paths = self.paths(self.check(program)[1])
+        self.assertIn((5, 6, 7), paths)
+        self.assertIn((7, 6), paths)
         program = main_of((5, (), (), ("jump", 6, ())), (6, (), ((1, "tick", None, ()), (2, "num", 1, ())), ("jump", 7, (2,))), (7, ((3, 0),), (), ("branch", 3, 6, (), 8, ())),
                           (8, (), (), ("give", 0)))
-        outcome, paper = self.check(program)
-        self.assertIn((6, 7), self.paths(paper))
+        self.assertIn((6, 7), self.paths(self.check(program)[1]))
         ring = main_of((5, (), (), ("jump", 6, ())), (6, (), ((1, "tick", None, ()),), ("jump", 7, ())), (7, (), (), ("jump", 8, ())), (8, (), (), ("jump", 6, ())))
-        outcome, paper = self.check(ring)
-        self.assertEqual([(5,), (6, 7, 8)], self.paths(paper))
+        self.assertEqual([(5,), (6, 7, 8)], self.paths(self.check(ring)[1]))
+        # A block that leads to itself.
+        alone = main_of((5, (), ((1, "num", 1, ()),), ("jump", 6, (1,))), (6, ((2, 0),), ((3, "tick", None, ()),), ("branch", 2, 6, (0,), 7, ())), (7, (), (), ("give", 2)))
+        self.assertEqual([(5, 6), (6,), (7,)], self.paths(self.check(alone)[1]))
 
     def test_both_ways_to_one_block(self):
         for number in (0, 3):
@@ -178,6 +181,19 @@ class TestThread(Laying):
         outcome, paper = self.check(program(99))
         self.assertEqual(400, rows_in(outcome[0]))
         self.stays(program(100), *thread(program(100)))
+
+
+    def test_too_many_rows_behind_a_branch(self):
+        # Each of the ways goes on to the same block of many rows: where that is too much, the paths end with the branch.
+        def program(many):
+            rows = tuple((100 + k, "out", None, (0,)) for k in range(many))
+            ways = [(10 + k, (), ((30 + k, "num", 1, ()),), ("jump", 20, (30 + k,))) for k in range(4)]
+            return main_of((0, (), (), ("branch", 0, 1, (), 2, ())), (1, (), (), ("branch", 90, 10, (), 11, ())), (2, (), (), ("branch", 90, 12, (), 13, ())), *ways,
+                           (20, ((50, 0),), ((51, "out", None, (50,)),), ("branch", 50, 21, (), 22, ())), (21, (), rows, ("give", 0)), (22, (), (), ("give", 90)))
+        for many, path in ((98, (10, 20, 21)), (99, (10, 20)), (300, (10, 20))):
+            outcome, paper = self.check(program(many))
+            self.assertEqual(path, self.paths(paper)[3])
+        self.stays(program(393), *thread(program(393)))
 
 
 class TestTurn(Laying):
@@ -305,21 +321,47 @@ class TestUnroll(Laying):
                 self.check(self.check(program, 2 + seed % 3, seed)[0], 2, seed)
                 self.check(know(program)[0], 2 + seed % 3, seed)
 
-    def test_too_many_blocks_or_rows(self):
-        def ring(many):
-            return (shaped([1], *[[k + 1] if k < many else [1, many + 1] for k in range(1, many + 1)], []),)
-        for many, times in ((29, 2), (19, 3), (14, 4)):
-            outcome, paper = self.check(ring(many), times)
-            self.assertEqual(2 + many * times, len(outcome[0][3]))
-            self.stays(ring(many + 1), *unroll(ring(many + 1), times))
+    def test_too_many_blocks(self):
+        def ring(ahead, many):
+            """So many blocks ahead of a ring of so many, and one behind."""
+            return (shaped(*[[k + 1] for k in range(ahead + many - 1)], [ahead, ahead + many], []),)
+        for ahead, many, times in ((1, 29, 2), (2, 19, 3), (3, 14, 4), (59 - 2 * 20, 20, 2)):
+            outcome, paper = self.check(ring(ahead, many), times)
+            self.assertEqual(60, len(outcome[0][3]))
+            for more in (ring(ahead + 1, many), ring(ahead, many + 1)):
+                self.stays(more, *unroll(more, times))
 
-        def long(many):
+    def test_too_many_rows(self):
+        def ring(ahead, many):
+            """So many rows ahead of a ring of so many."""
             rows = ((100, "tick", None, ()),) + tuple((k, "out", None, (0,)) for k in range(101, 100 + many))
-            return main_of((0, (), (), ("jump", 1, ())), (1, (), rows, ("branch", 0, 1, (), 2, ())), (2, (), (), ("give", 0)))
-        for many, times in ((200, 2), (133, 3), (100, 4)):
-            outcome, paper = self.check(long(many), times)
-            self.assertEqual(many * times, rows_in(outcome[0]))
-            self.stays(long(many + 1), *unroll(long(many + 1), times))
+            first = tuple((1000 + k, "out", None, (0,)) for k in range(ahead))
+            return main_of((0, (), first, ("jump", 1, ())), (1, (), rows, ("branch", 0, 1, (), 2, ())), (2, (), (), ("give", 0)))
+        for ahead, many, times in ((0, 200, 2), (1, 133, 3), (0, 100, 4), (200, 50, 4)):
+            outcome, paper = self.check(ring(ahead, many), times)
+            self.assertEqual(400, rows_in(outcome[0]))
+            for more in (ring(ahead + 1, many), ring(ahead, many + 1)):
+                self.stays(more, *unroll(more, times))
+
+    def test_first_copies_keep_their_names(self):
+        program = lower(tree_of("( let a 0 ) ( while ( < n 5 ) ( ( put n ( + n 1 ) ) ( put a ( + a n ) ) ) ) ( give a )"))[0]
+        old, new = program[-1], unroll(program, 3)[0][-1]
+        self.assertEqual([block[0] for block in old[3]], [block[0] for block in new[3] if block[0] < len(old[3])])
+        names = [row[0] for block in old[3] for row in block[2]]
+        copies = [row[0] for block in new[3] for row in block[2]]
+        self.assertLess(set(names), set(copies))
+        for block in old[3]:
+            self.assertEqual([row[0] for row in block[2]], [row[0] for row in block_of(new, block[0])[2]])
+
+    def test_params_where_names_come_together_alone(self):
+        # 0 and 2 are the same all the way round; 4 changes.
+        program = main_of((5, (), ((1, "num", 2, ()), (2, "num", 3, ())), ("jump", 6, (1, 0))),
+                          (6, ((4, 0), (7, 0)), ((8, "tick", None, ()), (9, "+", None, (4, 2))), ("branch", 9, 10, (), 11, ())),
+                          (10, (), ((12, "+", None, (9, 7)),), ("jump", 6, (12, 7))), (11, (), ((13, "-", None, (4, 7)),), ("give", 13)))
+        outcome, paper = self.check(program, 2)
+        self.assertEqual([(5,), (6,), (6,), (10,), (10,), (11,)], self.paths(paper))
+        # The second copy of the head is led to by one way alone; the block behind by both copies.
+        self.assertEqual([0, 1, 0, 0, 0, 1], [len(block[1]) for block in outcome[0][3]])
 
     def test_one_function_too_large_does_not_hold_up_the_others(self):
         large = shaped([1], *[[k + 1] if k < 40 else [1, 41] for k in range(1, 41)], [])

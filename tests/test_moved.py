@@ -108,7 +108,7 @@ class TestMovedWrong(Checking):
                            (5, (26, "out", None, (20,))), (6, (27, "rest", None, (25, 1))), (6, (61, "/", None, (25, 1)))):
             rows = block[2][:index] + (row,) + block[2][index + 1:]
             self.wrong(PROGRAM, with_block(PROGRAM, 6, rows=rows), paper, ("main", 6, index))
-        self.wrong(PROGRAM, with_block(PROGRAM, 7, rows=block_of(PROGRAM[0], 7)[2][:1]), paper)
+        self.wrong(PROGRAM, with_block(PROGRAM, 7, rows=block_of(PROGRAM[0], 7)[2][:1]), paper, ("main", 7, -1))
 
     def test_ends_params_labels_and_functions(self):
         paper = ("moved", ((),))
@@ -133,7 +133,9 @@ class TestMovedWrong(Checking):
         self.let_by(PROGRAM, after, ("moved", (right,)))
         for paper in NO_PAPERS:
             with self.subTest(paper=paper):
-                self.wrong(PROGRAM, after, paper)
+                self.wrong(PROGRAM, after, paper, ("", -1, -1))
+        for told in (None, right[::-1], right + right[1:], right + ((77, 5),), right + ((91, 5),)):
+            self.wrong(PROGRAM, after, ("moved", (told,)), ("main", -1, -1))
         for told in (right[::-1], right[:1], right[1:], (), right + ((25, 6),), right + ((25, 5),), right + ((77, 5),), right + ((28, 7),),
                      ((1, 5),) + right, ((22, 6), (24, 5)), ((22, 5), (24, 7)), ((22, 5), (24, 99)), right + right[1:], ((20, 6),) + right, ((0, 5),) + right,
                      list(right), (list(right[0]), right[1]), ((22, 5, 0), (24, 5)), ((22,), (24, 5)), ((22, None), (24, 5)), ((None, 5),) + right,

@@ -87,6 +87,10 @@ class TestWaysWrong(CheckingWays):
             self.wrong(BEFORE, AFTER, with_entry(0, path, pairs), ("main", 40, -1))
         self.wrong(BEFORE, AFTER, with_entry(0, TOLD[0][1], TOLD[0][2][:1]), ("main", 40, 1))
         self.wrong(BEFORE, AFTER, with_entry(0, TOLD[0][1], ()))
+        # A name that is no param, though it is there before and after.
+        same = main_of((5, (), ((1, "num", 1, ()),), ("give", 1)))
+        self.let_by(same, same, paper_of((5, (5,), ((0, 0),))))
+        self.wrong(same, same, paper_of((5, (5,), ((0, 0), (1, 1)))), ("main", 5, -1))
         # Pairs of params that aren't used needn't be there.
         before = main_of((5, (), (), ("give", 0)))
         self.let_by(before, before, paper_of((5, (5,), ((0, 0),))))
@@ -153,7 +157,9 @@ class TestWaysWrong(CheckingWays):
     def test_papers(self):
         for paper in NO_PAPERS:
             with self.subTest(paper=paper):
-                self.wrong(BEFORE, AFTER, paper)
+                self.wrong(BEFORE, AFTER, paper, ("", -1, -1))
+        for told in ((), TOLD[:3], TOLD + TOLD[3:], list(TOLD), None):
+            self.wrong(BEFORE, AFTER, ("ways", (told,)), ("main", -1, -1))
         for told in ((), TOLD[:3], TOLD + TOLD[3:], TOLD[::-1], (TOLD[0], TOLD[2], TOLD[1], TOLD[3]), list(TOLD), None, 5, (TOLD[0][:2],) + TOLD[1:],
                      (TOLD[0] + ((),),) + TOLD[1:], (list(TOLD[0]),) + TOLD[1:], (("40",) + TOLD[0][1:],) + TOLD[1:], ((41,) + TOLD[0][1:],) + TOLD[1:]):
             with self.subTest(told=told):
