@@ -3,7 +3,7 @@
 from passpapers.forms import is_tuple_of
 from passpapers.middle import SAFE, end_with, names_given, param_names, used_by, ways_of
 from passpapers.numbers import is_number
-from passpapers.papers import NOWHERE, blocks_wrong, heads_wrong, is_paper, refused_at, rows_named_wrong
+from passpapers.papers import NOWHERE, function_differs, heads_wrong, is_paper, refused_at
 from passpapers.unlike import all_unlike
 
 
@@ -27,7 +27,7 @@ def dropped_wrong(before, after, paper):
     for was, function, told in zip(staying, after, body):
         place = told_wrong(was, functions, told)
         if place is None:
-            place = function_wrong(was, function, told)
+            place = function_differs(blocks_left(was, told[0], told[1]), function)
         if place is not None:
             return place
     return None
@@ -77,22 +77,6 @@ def may_row_go(row, names):
 
 def may_be_dropped(row):
     return row[1] in SAFE or row[1] in ("new", "get")
-
-
-def function_wrong(was, function, told):
-    blocks = blocks_left(was, told[0], told[1])
-    place = blocks_wrong(blocks, function)
-    if place is None:
-        place = rows_named_wrong(blocks, function)
-    if place is not None:
-        return place
-    for block, there in zip(blocks, function[3]):
-        for index, (row, other) in enumerate(zip(block[2], there[2])):
-            if row != other:
-                return (function[0], block[0], index)
-        if block[3] != there[3]:
-            return (function[0], block[0], len(there[2]))
-    return None
 
 
 def blocks_left(function, labels, names):

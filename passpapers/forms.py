@@ -51,18 +51,28 @@ def are_params(thing):
     return all([is_tuple_of(param, 2) and is_name(param[0]) and is_kind(param[1]) for param in thing])
 
 
+def functions_wrong(functions):
+    """(why, place) where these aren't a tuple of functions with unlike names, main among them; None where they are."""
+    nowhere = ("", -1, -1)
+    if not isinstance(functions, tuple) or not all([is_tuple_of(function, 4) for function in functions]):
+        return ("functions are a tuple of tuples of four", nowhere)
+    names = [function[0] for function in functions]
+    if not all([isinstance(name, str) for name in names]):
+        return ("a function's name is a word", nowhere)
+    again = first_again(names)
+    if again is not None:
+        return ("two functions have one name", (names[again], -1, -1))
+    return None if "main" in names else ("there is no main", nowhere)
+
+
 def look_at_form(program):
     """None, or NoMiddle."""
-    nowhere = ("", -1, -1)
-    want(isinstance(program, tuple), "a program is a tuple of functions", nowhere)
+    wrong = functions_wrong(program)
+    if wrong is not None:
+        raise NoMiddle(wrong[0], wrong[1])
     for function in program:
-        want(is_tuple_of(function, 4), "a function has a name, params, a kind and blocks", nowhere)
-        want(isinstance(function[0], str), "a function's name is a word", nowhere)
         look_at_function(function)
-    again = first_again([function[0] for function in program])
-    want(again is None, "two functions have one name", nowhere if again is None else (program[again][0], -1, -1))
     counts = {function[0]: len(function[1]) for function in program}
-    want("main" in counts, "there is no main", nowhere)
     for function in program:
         look_at_uses(function, counts)
 

@@ -7,8 +7,9 @@ which blocks come together where.
 
 from passpapers.flow import first_label
 from passpapers.looks import kinds_given
-from passpapers.middle import block_of, end_with, names_given, param_names, used_by, ways_of
+from passpapers.middle import all_names, block_of, end_with, param_names, used_by, ways_of
 from passpapers.needs import needs_of
+from passpapers.numbering import Numbering
 from passpapers.pieces import is_all_as_it_was, is_too_much
 
 
@@ -49,24 +50,6 @@ class Layout:
         while thing in self.instead:
             thing = self.instead[thing]
         return thing
-
-
-class Numbering:
-    """Hands out numbers, each once: the wished one where it is free, else the least one that is none of the old."""
-
-    def __init__(self, old):
-        self.old = {number: True for number in old}
-        self.handed_out = {}
-        self.least = 0
-
-    def number_for(self, wished):
-        number = wished
-        if wished in self.handed_out:
-            while self.least in self.old or self.least in self.handed_out:
-                self.least += 1
-            number = self.least
-        self.handed_out[number] = True
-        return number
 
 
 def laid_out(program, pieces_for):
@@ -186,10 +169,7 @@ def leave_out_params(layout):
 
 def names_of(layout):
     """A name for each thing that stays: that of which it is a copy, where this is free."""
-    old = param_names(layout.function[1])
-    for block in layout.function[3]:
-        old.extend(names_given(block))
-    numbering = Numbering(old)
+    numbering = Numbering(all_names(layout.function))
     names = {thing: numbering.number_for(name) for thing, name in enumerate(param_names(layout.function[1]))}
     for draft in layout.drafts.values():
         for row in draft.rows:

@@ -4,9 +4,10 @@ The form is looked at first, then which names are given ahead, then kinds, then 
 right is found ahead of all that only uses its name.
 """
 
-from passpapers.flow import above_of, leads_of, reached
+from passpapers.flow import above_of, leads_of
 from passpapers.forms import ANY, LIST, NUMBER, RECORD, TAKES, look_at_form, want
 from passpapers.middle import block_of, names_given, param_names, row_names, used_by, ways_of
+from passpapers.rings import ring_end
 
 
 def look_at_middle(program):
@@ -156,19 +157,9 @@ def is_counted(block):
     return any([row[1] in ("tick", "call") for row in block[2]])
 
 
-def leads_round(leads, labels):
-    """The labels of these whose ends lead round in a ring among these alone."""
-    inner = {label: [led for led in leads[label] if led in labels] for label in labels}
-    return [label for label in labels if any([label in reached(inner, led, None) for led in inner[label]])]
-
-
 def look_at_rings(function):
-    leads = leads_of(function)
     labels = [block[0] for block in function[3] if not is_counted(block)]
-    ringed = leads_round(leads, labels)
-    if len(ringed) == 0:
-        return
-    # An end without which there would be no ring is the one that is wrong; of several such the last leads back.
-    alone = [label for label in ringed if len(leads_round(leads, [other for other in ringed if other != label])) == 0]
-    label = ringed[-1] if len(alone) == 0 else alone[-1]
-    want(False, "ends lead round without a tick or a call", (function[0], label, len(block_of(function, label)[2])))
+    label = ring_end(leads_of(function), labels)
+    if label is not None:
+        place = (function[0], label, len(block_of(function, label)[2]))
+        want(False, "ends lead round without a tick or a call", place)

@@ -16,6 +16,14 @@ def block_of(function, label):
     return None
 
 
+def function_named(functions, name):
+    """The function of that name; None where there is none."""
+    for function in functions:
+        if function[0] == name:
+            return function
+    return None
+
+
 def ways_of(end):
     """(label, args) of each way that the end leads, in order."""
     if end[0] == "jump":
@@ -49,6 +57,14 @@ def row_names(rows):
 def names_given(block):
     """The names that a block gives: its params' and its rows'."""
     return param_names(block[1]) + row_names(block[2])
+
+
+def all_names(function):
+    """All names that the function gives."""
+    names = {name: True for name in param_names(function[1])}
+    for block in function[3]:
+        names.update({name: True for name in names_given(block)})
+    return names
 
 
 def names_used(function):

@@ -1,7 +1,7 @@
 """Programs of the middle run. The calls under way are kept in a list, so they may be as deep as the bound lets."""
 
 from passpapers.middle import param_names, ways_of
-from passpapers.runs import Ended, Run, value_of
+from passpapers.runs import Ended, run_within, value_of
 
 
 class Code:
@@ -77,9 +77,5 @@ def answer_of(codes, inputs, run):
 
 def middle_run(program, inputs, bound):
     """(end, value, letters, work): how main, handed these inputs, runs within that bound of ticks."""
-    run = Run(bound)
-    try:
-        answer = answer_of({function[0]: Code(function) for function in program}, inputs, run)
-    except Ended as e:
-        return (e.end, e.value, tuple(run.letters), run.work)
-    return ("answer", answer, tuple(run.letters), run.work)
+    codes = {function[0]: Code(function) for function in program}
+    return run_within(bound, lambda run: answer_of(codes, inputs, run))

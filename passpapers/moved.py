@@ -1,10 +1,7 @@
 """Whether a paper "moved" tells which rows stand in other blocks than before, and nothing else is changed."""
 
-from passpapers.forms import is_tuple_of
 from passpapers.middle import SAFE, row_names, rows_by_name
-from passpapers.numbers import is_number
-from passpapers.papers import blocks_wrong, each_wrong, odd_index
-from passpapers.unlike import all_unlike
+from passpapers.papers import are_pairs, blocks_wrong, each_wrong, odd_index
 
 
 def moved_wrong(before, after, paper):
@@ -29,13 +26,7 @@ def function_wrong(was, function, told):
 
 def are_moves(told):
     """Whether told is a tuple of (name, label), sorted, each name once."""
-    if not isinstance(told, tuple) or not all([is_move(move) for move in told]):
-        return False
-    return list(told) == sorted(told) and all_unlike([name for name, label in told])
-
-
-def is_move(move):
-    return is_tuple_of(move, 2) and is_number(move[0]) and is_number(move[1])
+    return are_pairs(told) and list(told) == sorted(told)
 
 
 def ends_wrong(was, function):

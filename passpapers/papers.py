@@ -1,9 +1,12 @@
-"""What the checkers of papers between programs of the middle have in common."""
+"""What the checkers of papers have in common."""
 
-from passpapers.errors import NoMiddle
+from passpapers.errors import NoMachine, NoMiddle
 from passpapers.forms import is_tuple_of
 from passpapers.looks import look_at_middle
+from passpapers.machine import look_at_machine
 from passpapers.middle import row_names
+from passpapers.numbers import is_number
+from passpapers.unlike import all_unlike
 
 NOWHERE = ("", -1, -1)
 
@@ -13,6 +16,15 @@ def refused_at(program):
     try:
         look_at_middle(program)
     except NoMiddle as e:
+        return e.place
+    return None
+
+
+def machine_refused_at(machine):
+    """The place where the look refuses the machine; None where it doesn't."""
+    try:
+        look_at_machine(machine)
+    except NoMachine as e:
         return e.place
     return None
 
@@ -71,13 +83,80 @@ def rows_named_wrong(blocks, function):
     return None
 
 
-def odd_index(wanted, names):
-    """The index of the name that alone is too many or out of its order; else the first that isn't as wanted."""
-    for index, name in enumerate(names):
-        others = names[:index] + names[index + 1:]
-        if others == [other for other in wanted if other != name]:
+def with_moved(things, index, place):
+    """These things, the one of that index standing at that place."""
+    others = things[:index] + things[index + 1:]
+    return others[:place] + things[index:index + 1] + others[place:]
+
+
+def odd_index(wanted, there):
+    """The index of what alone is too many or out of its order; else of the first that isn't as wanted.
+
+    Of several alike, one of them too many, that is the last.
+    """
+    shorter = min(len(wanted), len(there))
+    first = 0
+    while first < shorter and there[first] == wanted[first]:
+        first += 1
+    for index in range(first + 1, shorter):
+        if wanted[index] == there[first] and with_moved(there, first, index) == wanted:
+            return first
+        if there[index] == wanted[first] and with_moved(there, index, first) == wanted:
             return index
-    index = 0
-    while index < len(names) and index < len(wanted) and names[index] == wanted[index]:
-        index += 1
-    return index
+    return first
+
+
+def rows_wrong(wanted, rows, wanted_end, end):
+    """The index of a row, or of the end, of these that isn't as wanted; None where all are."""
+    if wanted != rows:
+        return odd_index(wanted, rows)
+    return None if wanted_end == end else len(rows)
+
+
+def function_differs(blocks, function):
+    """A place where the function's blocks aren't just these."""
+    place = blocks_wrong(blocks, function)
+    if place is not None:
+        return place
+    for block, there in zip(blocks, function[3]):
+        index = rows_wrong(block[2], there[2], block[3], there[3])
+        if index is not None:
+            return (function[0], there[0], index)
+    return None
+
+
+def program_differs(wanted, after):
+    """A place where the program after isn't just the one that is wanted."""
+    place = heads_wrong(wanted, after)
+    if place is not None:
+        return place
+    for function, there in zip(wanted, after):
+        place = function_differs(function[3], there)
+        if place is not None:
+            return place
+    return None
+
+
+def made_wrong(before, after, paper, kind, made):
+    """A place where after isn't what made(before, body) makes by the paper's body, before itself if that is ().
+
+    Where body tells nothing right, made tells None.
+    """
+    place = refused_at(after)
+    if place is not None:
+        return place
+    if not is_paper(paper, kind):
+        return NOWHERE
+    wanted = before if paper[1] == () else made(before, paper[1])
+    return NOWHERE if wanted is None else program_differs(wanted, after)
+
+
+def are_pairs(pairs):
+    """Whether these are a tuple of pairs of numbers, the first of each pair once."""
+    if not isinstance(pairs, tuple) or not all([is_pair(pair) for pair in pairs]):
+        return False
+    return all_unlike([first for first, second in pairs])
+
+
+def is_pair(pair):
+    return is_tuple_of(pair, 2) and is_number(pair[0]) and is_number(pair[1])

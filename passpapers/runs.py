@@ -1,6 +1,6 @@
-"""What runs of trees and of the middle have in common: ticks, letters, and what each op does.
+"""What runs of trees, of the middle and of machines have in common: ticks, letters, and what each op does.
 
-A record is a list of its fields' numbers, a list a list of its numbers; each is handed on as itself.
+A record is a dict of its fields' numbers, a list a list of its numbers; each is handed on as itself.
 """
 
 from passpapers.numbers import reckoned
@@ -40,7 +40,7 @@ def value_copied(run, told, args):
 
 
 def value_new(run, told, args):
-    return [0] * told
+    return {field: 0 for field in range(told)}
 
 
 def value_got(run, told, args):
@@ -104,3 +104,13 @@ def value_of(run, op, told, args):
     if number is None:
         raise Ended("fault", "nought")
     return number
+
+
+def run_within(bound, answered):
+    """(end, value, letters, work) of a run within that bound of ticks whose answer answered(run) tells."""
+    run = Run(bound)
+    try:
+        answer = answered(run)
+    except Ended as e:
+        return (e.end, e.value, tuple(run.letters), run.work)
+    return ("answer", answer, tuple(run.letters), run.work)

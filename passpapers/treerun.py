@@ -5,7 +5,7 @@ their own: so calls may be as deep within one another as the bound lets.
 """
 
 from passpapers.plans import plan_of
-from passpapers.runs import Ended, Run, value_of
+from passpapers.runs import Ended, run_within, value_of
 from passpapers.tables import parts_headed
 
 
@@ -120,9 +120,4 @@ def answer_of(codes, inputs, run):
 
 def tree_run(tree, inputs, bound):
     """(end, value, letters): how the tree's main, handed these inputs, runs within that bound of ticks."""
-    run = Run(bound)
-    try:
-        answer = answer_of(codes_of(tree), inputs, run)
-    except Ended as e:
-        return (e.end, e.value, tuple(run.letters))
-    return ("answer", answer, tuple(run.letters))
+    return run_within(bound, lambda run: answer_of(codes_of(tree), inputs, run))[:3]

@@ -2,11 +2,10 @@
 
 from passpapers.flow import first_label
 from passpapers.forms import is_tuple_of
-from passpapers.middle import names_given, param_names, ways_of
+from passpapers.middle import all_names, param_names, ways_of
 from passpapers.numbers import is_number
-from passpapers.papers import each_wrong
+from passpapers.papers import are_pairs, each_wrong
 from passpapers.roads import Road, odd_row_of, stray_of
-from passpapers.unlike import all_unlike
 
 
 def ways_wrong(before, after, paper):
@@ -41,7 +40,7 @@ def entries_wrong(was, function, told):
     if not is_tuple_of(told, len(function[3])):
         return (function[0], -1, -1)
     labels = [block[0] for block in was[3]]
-    names = names_of(was)
+    names = all_names(was)
     for block, entry in zip(function[3], told):
         if not is_entry(entry) or entry[0] != block[0]:
             return (function[0], block[0], -1)
@@ -64,27 +63,9 @@ def is_path(path):
     return isinstance(path, tuple) and len(path) > 0 and all([is_number(label) for label in path])
 
 
-def are_pairs(pairs):
-    if not isinstance(pairs, tuple) or not all([is_pair(pair) for pair in pairs]):
-        return False
-    return all_unlike([old for old, new in pairs])
-
-
-def is_pair(pair):
-    return is_tuple_of(pair, 2) and is_number(pair[0]) and is_number(pair[1])
-
-
-def names_of(function):
-    """All names that the function gives."""
-    names = {name: True for name in param_names(function[1])}
-    for block in function[3]:
-        names.update({name: True for name in names_given(block)})
-    return names
-
-
 def name_missing(function, told):
     """The first name told of after that after doesn't give; None where there is none such."""
-    names = names_of(function)
+    names = all_names(function)
     for label, path, pairs in told:
         for old, new in pairs:
             if new not in names:

@@ -131,6 +131,41 @@ def spoiled(chooser, program):
             if is_looked_at(other)]
 
 
+def parts_within(thing, path=()):
+    """The paths to all parts of a thing of tuples, itself among them."""
+    paths = [path]
+    if isinstance(thing, tuple):
+        for at, part in enumerate(thing):
+            paths += parts_within(part, path + (at,))
+    return paths
+
+
+def with_part_at(thing, path, part):
+    if not path:
+        return part
+    return thing[:path[0]] + (with_part_at(thing[path[0]], path[1:], part),) + thing[path[0] + 1:]
+
+
+def part_at(thing, path):
+    for at in path:
+        thing = thing[at]
+    return thing
+
+
+def changed(chooser, paper):
+    """The paper with one part, anywhere within, other than it was: another one of its parts, left out, or put twice."""
+    paths = parts_within(paper)
+    path = chooser.choice(paths)
+    part = part_at(paper, path)
+    roll = chooser.random()
+    if isinstance(part, tuple) and part and roll < 0.3:
+        at = chooser.randrange(len(part))
+        return with_part_at(paper, path, part[:at] + part[at + 1:] if roll < 0.15 else part[:at] + part[at:at + 1] + part[at:])
+    if isinstance(part, int) and roll < 0.5:
+        return with_part_at(paper, path, part + chooser.choice((-2, -1, 1, 2)))
+    return with_part_at(paper, path, part_at(paper, chooser.choice(paths)))
+
+
 class Checking(unittest.TestCase):
     """Tests of a checker, which subclasses set as a plain function in a tuple."""
 

@@ -5,18 +5,22 @@ import unittest
 
 from drawing import drawn, inputs_for
 from growing import grown
-from spoiling import spoiled
+from spoiling import changed, spoiled
 from test_lowering import MAINS, tree_of
 
 from passpapers.dropped import dropped_wrong
 from passpapers.dropping import drop
 from passpapers.facts import facts_wrong
 from passpapers.joining import join_blocks
+from passpapers.keeping import keep
+from passpapers.kept import kept_wrong
 from passpapers.knowing import know
 from passpapers.lowering import lower
 from passpapers.midrun import middle_run
 from passpapers.moved import moved_wrong
 from passpapers.moving import move_out
+from passpapers.placed import placed_wrong
+from passpapers.placing import place_first
 from passpapers.threading import thread
 from passpapers.turning import turn_rounds
 from passpapers.unrolling import unroll
@@ -26,6 +30,7 @@ PASSES = {
     "know": (know, facts_wrong), "drop": (drop, dropped_wrong), "move": (move_out, moved_wrong),
     "join": (join_blocks, ways_wrong), "thread": (thread, ways_wrong), "turn": (turn_rounds, ways_wrong),
     "unroll": (lambda program: unroll(program, 2), ways_wrong), "more": (lambda program: unroll(program, 3), ways_wrong),
+    "place": (place_first, placed_wrong), "keep": (keep, kept_wrong),
 }
 
 
@@ -54,7 +59,7 @@ class TestPasses(unittest.TestCase):
         self.assertEqual([function[:3] for function in program if word != "drop" or function[:3] in heads], heads)
         before, after = runs_of(program, seed), runs_of(outcome, seed)
         self.assertEqual([run[:3] for run in before], [run[:3] for run in after])
-        if word != "move":
+        if word not in ("move", "place"):
             self.assertTrue(all(new[3] <= old[3] for old, new in zip(before, after)))
         return outcome
 
@@ -91,6 +96,25 @@ class TestPasses(unittest.TestCase):
                         self.assertEqual(runs, [run[:3] for run in runs_of(other, seed)], (seed, word, place))
                     else:
                         self.assertEqual(place, told, (seed, word))
+        self.assertGreater(let_by, 0)
+
+    def test_papers_that_tell_something_else(self):
+        # Whatever else a paper tells: if it is let by, both sides run alike.
+        let_by = 0
+        for seed in range(120):
+            chooser = random.Random(seed)
+            program = program_of(seed)
+            for word, (action, checker) in PASSES.items():
+                outcome, paper = action(program)
+                for k in range(6):
+                    other = changed(chooser, paper)
+                    after = chooser.choice((outcome, outcome, program))
+                    told = checker(program, after, other)
+                    if told is None:
+                        let_by += 1
+                        self.assertEqual([run[:3] for run in runs_of(program, seed)], [run[:3] for run in runs_of(after, seed)], (seed, word, other))
+                    else:
+                        self.assertEqual([tuple, str, int, int], [type(told)] + [type(part) for part in told])
         self.assertGreater(let_by, 0)
 
     def test_other_passes_papers(self):
