@@ -31,11 +31,14 @@ def function_wrong(function, made, registers, told):
     if place is not None:
         return place
     course = Course(function, told)
-    for label, rows, end in made[3]:
-        stray = stray_of(course, label, rows, end)
-        if stray is not None:
-            return (made[0], label, index_alone(course, (label, rows, end), stray))
-    return None
+    strays = [(block, stray_of(course, block[0], block[1], block[2])) for block in made[3]]
+    strays = [(block, stray) for block, stray in strays if stray is not None]
+    if len(strays) == 0:
+        return None
+    block, stray = strays[0]
+    # Where several blocks go astray, no row or end alone is wrong.
+    index = index_alone(course, block, stray) if len(strays) == 1 else stray.index
+    return (made[0], block[0], index)
 
 
 def told_wrong(function, made, registers, told):

@@ -98,6 +98,8 @@ def odd_index(wanted, there):
     first = 0
     while first < shorter and there[first] == wanted[first]:
         first += 1
+    if first == shorter or wanted.count(there[first]) != there.count(there[first]):
+        return first
     for index in range(first + 1, shorter):
         if wanted[index] == there[first] and with_moved(there, first, index) == wanted:
             return first
