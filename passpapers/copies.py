@@ -20,6 +20,7 @@ class Copies:
     def __init__(self, wanted, free):
         self.wanted = dict(wanted)
         self.free = free
+        self.carried = None
         self.rows = []
         self.many_readers = {}
         for source in self.wanted.values():
@@ -29,7 +30,9 @@ class Copies:
         """Makes the copy to that slot; tells the place that it came from."""
         source = self.wanted.pop(slot)
         if source < 0:
-            self.rows.append(row_loaded(slot_at(source), self.free[0]))
+            if self.carried != source:
+                self.rows.append(row_loaded(slot_at(source), self.free[0]))
+                self.carried = source
             self.rows.append(row_saved(slot, self.free[0]))
         else:
             self.rows.append(row_saved(slot, source))

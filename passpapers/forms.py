@@ -127,10 +127,13 @@ def is_told(op, told):
     return told is None
 
 
+def word_of(end):
+    """The word with which an end begins; None where it is no tuple that begins with one."""
+    return end[0] if isinstance(end, tuple) and len(end) > 0 and isinstance(end[0], str) else None
+
+
 def is_end(end):
-    if not isinstance(end, tuple) or len(end) == 0 or not isinstance(end[0], str):
-        return False
-    word = end[0]
+    word = word_of(end)
     if word not in END_LENGTHS or len(end) != END_LENGTHS[word]:
         return False
     if word == "fail":

@@ -5,7 +5,7 @@ A machine is (registers, functions), a function (name, count, slots, blocks), a 
 """
 
 from passpapers.errors import NoMachine
-from passpapers.forms import TAKES, functions_wrong, is_name, is_told, is_tuple_of
+from passpapers.forms import TAKES, functions_wrong, is_name, is_told, is_tuple_of, word_of
 from passpapers.numbers import is_number
 from passpapers.rings import ring_end
 from passpapers.unlike import first_again
@@ -106,9 +106,7 @@ def are_below(things, count, many):
 
 
 def is_end(end, sizes, labels):
-    if not isinstance(end, tuple) or len(end) == 0 or not isinstance(end[0], str):
-        return False
-    word = end[0]
+    word = word_of(end)
     if word not in END_LENGTHS or len(end) != END_LENGTHS[word]:
         return False
     if word == "fail":
